@@ -9,6 +9,7 @@ import (
 	"weak"
 
 	"culvert/api"
+	"culvert/draws"
 	"culvert/ring"
 	"culvert/sentinels"
 )
@@ -189,32 +190,24 @@ func TestP2_1_ANilRingIsOfCapacityNought(t *testing.T) {
 	}
 }
 
-// draws: numbers that are spread by a fixed rule.
-type draws uint32
-
-func (d *draws) below(n int) int {
-	*d = *d*1664525 + 1013904223
-	return int(uint32(*d)>>8) % n
-}
-
 // Long runs of all calls, held against a plain list; amounts up to twice the capacity, so that rings are often full and often empty.
 func TestP2_2_AndP2_3_AgainstAPlainList(t *testing.T) {
 	for _, capacity := range []int{0, 1, 2, 3, 4, 5, 7, 8, 16, 33, 100} {
 		for seed := range 4 {
-			d := draws(seed*1000 + capacity)
+			d := draws.Draws(seed*1000 + capacity)
 			againstList(t, capacity, &d)
 		}
 	}
 }
 
-func againstList(t *testing.T, capacity int, d *draws) {
+func againstList(t *testing.T, capacity int, d *draws.Draws) {
 	t.Helper()
 	r := newRing[int](t, capacity)
 	var want []int
 	next := 1
 	for range 600 {
-		n := d.below(2*capacity+3) - 1
-		switch gone := firstOf(want, n); d.below(7) {
+		n := d.Below(2*capacity+3) - 1
+		switch gone := firstOf(want, n); d.Below(7) {
 		case 0, 1, 2:
 			var items []int
 			for i := range max(0, n) {
@@ -233,7 +226,7 @@ func againstList(t *testing.T, capacity int, d *draws) {
 			equal(t, "Drop", r.Drop(n), len(gone))
 			want = want[len(gone):]
 		case 6:
-			if d.below(5) == 0 {
+			if d.Below(5) == 0 {
 				equal(t, "Clear", r.Clear(), len(want))
 				want = nil
 			}
