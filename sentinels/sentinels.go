@@ -1,8 +1,9 @@
-// Package sentinels tells whether an error is just the one that a call must fail with (DOC.md, R2). The layers' tests use it; no layer does.
+// Package sentinels tells whether an error is just the one that a call must fail with, or the violation (DOC.md, R2). The layers' tests use it; no layer does.
 package sentinels
 
 import (
 	"errors"
+	"slices"
 
 	"culvert/api"
 )
@@ -30,10 +31,29 @@ func Just(err, want error) bool {
 	if want == nil {
 		return err == nil
 	}
+	return finds(err, want)
+}
+
+// Breach: is err a violation on this stream, in which errors.Is finds ErrProtocol and why, and no other sentinel?
+func Breach(err error, stream uint32, why error) bool {
+	var v *api.Violation
+	if !errors.As(err, &v) || v == nil {
+		return false
+	}
+	return v.Stream == stream && v.Why == why && finds(err, api.ErrProtocol, why)
+}
+
+// finds: does errors.Is find all of wants in err, and no other sentinel?
+func finds(err error, wants ...error) bool {
 	for _, s := range All() {
-		if errors.Is(err, s) != (s == want) {
+		if errors.Is(err, s) != slices.Contains(wants, s) {
 			return false
 		}
 	}
-	return errors.Is(err, want)
+	for _, want := range wants { // one that is no sentinel
+		if !errors.Is(err, want) {
+			return false
+		}
+	}
+	return true
 }

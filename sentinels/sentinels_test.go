@@ -60,12 +60,38 @@ func TestJust(t *testing.T) {
 		{api.ErrNil, api.ErrRange, false},
 		{foreign, api.ErrNil, false},
 		{foreign, nil, false},
+		{foreign, foreign, true},
+		{nil, foreign, false},
 		{fmt.Errorf("wrapped: %w", api.ErrShort), api.ErrShort, true},
 		{errors.Join(api.ErrShort, api.ErrRange), api.ErrShort, false},
 		{&api.Violation{Why: api.ErrWindow}, api.ErrWindow, false},
 	} {
 		if got := sentinels.Just(c.err, c.want); got != c.just {
 			t.Errorf("Just(%v, %v): %v", c.err, c.want, got)
+		}
+	}
+}
+
+func TestBreach(t *testing.T) {
+	why := api.ErrWindow
+	var none *api.Violation
+	for _, c := range []struct {
+		err    error
+		breach bool
+	}{
+		{&api.Violation{Stream: 7, Why: why}, true},
+		{fmt.Errorf("wrapped: %w", &api.Violation{Stream: 7, Why: why}), true},
+		{&api.Violation{Stream: 8, Why: why}, false},
+		{&api.Violation{Stream: 7, Why: api.ErrCredit}, false},
+		{&api.Violation{Stream: 7}, false},
+		{errors.Join(&api.Violation{Stream: 7, Why: why}, api.ErrRange), false},
+		{errors.Join(api.ErrProtocol, why), false},
+		{why, false},
+		{nil, false},
+		{none, false},
+	} {
+		if got := sentinels.Breach(c.err, 7, why); got != c.breach {
+			t.Errorf("Breach(%v): %v", c.err, got)
 		}
 	}
 }
