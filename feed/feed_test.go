@@ -13,6 +13,7 @@ import (
 	"culvert/feed"
 	"culvert/frame"
 	"culvert/sentinels"
+	"culvert/specimens"
 )
 
 // newDecoder: a decoder that must come about.
@@ -39,34 +40,6 @@ func isDead(t *testing.T, d *feed.Decoder, stream uint32, why error) {
 	if d.Held() != 0 || d.Wants() != 0 || !sentinels.Breach(d.Err(), stream, why) {
 		t.Fatalf("held %d, wants %d, %v; want 0 and 0, and a violation on %d: %v", d.Held(), d.Wants(), d.Err(), stream, why)
 	}
-}
-
-func sameFrames(a, b []api.Frame) bool {
-	return slices.EqualFunc(a, b, func(x, y api.Frame) bool {
-		return x.Head == y.Head && bytes.Equal(x.Data, y.Data)
-	})
-}
-
-func dataFrame(flags uint16, stream uint32, payload string) api.Frame {
-	return api.Frame{Head: api.Header{Type: api.TypeData, Flags: flags, Stream: stream, Length: uint32(len(payload))}, Data: []byte(payload)}
-}
-
-func bare(kind uint8, flags uint16, stream, length uint32) api.Frame {
-	return api.Frame{Head: api.Header{Type: kind, Flags: flags, Stream: stream, Length: length}}
-}
-
-// bytesOf: the frames' bytes, one behind the other.
-func bytesOf(t *testing.T, frames ...api.Frame) []byte {
-	t.Helper()
-	var all []byte
-	for _, f := range frames {
-		b, err := frame.Bytes(f)
-		if err != nil {
-			t.Fatalf("Bytes(%+v): %v", f, err)
-		}
-		all = append(all, b...)
-	}
-	return all
 }
 
 // reading is what bytes must have been read as.
@@ -108,7 +81,7 @@ func feedAll(t *testing.T, most int, pieces [][]byte) {
 		frames, err := d.Feed(piece)
 		got = append(got, frames...)
 		want := plainRead(fed, most)
-		if !sameFrames(got, want.frames) {
+		if !specimens.Same(got, want.frames) {
 			t.Fatalf("%x, behind piece %d: %v, want %v", pieces, i, got, want.frames)
 		}
 		if want.why != nil {
@@ -145,35 +118,13 @@ func drawnPieces(d *draws.Draws, b []byte, most int) [][]byte {
 	return append(pieces, nil)
 }
 
-// drawnFrame: one that a decoder with this most takes.
-func drawnFrame(d *draws.Draws, most int) api.Frame {
-	flags := []uint16{0, api.FlagSYN, api.FlagACK, api.FlagFIN, api.FlagSYN | api.FlagFIN, api.FlagACK | api.FlagFIN, api.FlagRST}
-	stream := []uint32{1, 2, 3, 255, 256, 65536, 1 << 31, math.MaxUint32}[d.Below(8)]
-	number := []uint32{0, 1, 2, 12, 255, 65536, 1 << 31, math.MaxUint32}[d.Below(8)]
-	switch d.Below(6) {
-	case 0:
-		return bare(api.TypeWindow, flags[d.Below(6)], stream, number)
-	case 1:
-		return bare([]uint8{api.TypeData, api.TypeWindow}[d.Below(2)], api.FlagRST, stream, 0)
-	case 2:
-		return bare(api.TypePing, []uint16{api.FlagSYN, api.FlagACK}[d.Below(2)], 0, number)
-	case 3:
-		return bare(api.TypeAway, 0, 0, uint32(d.Below(3)))
-	}
-	payload := make([]byte, d.Below(most+1))
-	for i := range payload {
-		payload[i] = byte(d.Below(256))
-	}
-	return dataFrame(flags[d.Below(6)], stream, string(payload))
-}
-
 // drawnBytes: a few frames' bytes, of which perhaps some were written over or have gone at the end.
-func drawnBytes(t *testing.T, d *draws.Draws, most int) []byte {
+func drawnBytes(d *draws.Draws, most int) []byte {
 	var frames []api.Frame
 	for range 1 + d.Below(5) {
-		frames = append(frames, drawnFrame(d, most))
+		frames = append(frames, specimens.Drawn(d, most))
 	}
-	b := bytesOf(t, frames...)
+	b := specimens.Bytes(frames...)
 	if d.Below(2) == 0 {
 		b[d.Below(len(b))] = byte(d.Below(256))
 	}
@@ -202,20 +153,20 @@ func TestP5_1_TheChaptersExamples(t *testing.T) {
 		held, wants int
 	}{
 		{"\x00\x01\x00\x01\x00\x00", nil, 6, 6},
-		{"\x00\x07\x00\x00\x00\x00\x00", []api.Frame{bare(api.TypeWindow, api.FlagSYN, 7, 0)}, 1, 11},
+		{"\x00\x07\x00\x00\x00\x00\x00", []api.Frame{specimens.Bare(api.TypeWindow, api.FlagSYN, 7, 0)}, 1, 11},
 		{"\x00\x00\x00\x00\x00\x00\x07\x00\x00\x00\x02a", nil, 13, 1},
-		{"b\x00\x00", []api.Frame{dataFrame(0, 7, "ab")}, 2, 10},
+		{"b\x00\x00", []api.Frame{specimens.Data(0, 7, "ab")}, 2, 10},
 		{"", nil, 2, 10},
-		{"\x00\x04\x00\x00\x00\x07\x00\x00\x00\x00", []api.Frame{dataFrame(api.FlagFIN, 7, "")}, 0, 12},
+		{"\x00\x04\x00\x00\x00\x07\x00\x00\x00\x00", []api.Frame{specimens.Data(api.FlagFIN, 7, "")}, 0, 12},
 	} {
 		got, err := d.Feed([]byte(c.in))
-		if !sameFrames(got, c.out) || err != nil {
+		if !specimens.Same(got, c.out) || err != nil {
 			t.Fatalf("example %d: %v, %v, want %v", i, got, err, c.out)
 		}
 		stands(t, d, c.held, c.wants)
 	}
 	got, err := d.Feed([]byte("\x00\x02\x00\x01\x00\x00\x00\x00\x00\x00\x00\x09\x00\x00\x00\x00\x00\x00\x00\x07\x00\x00\x00\x04a"))
-	if !sameFrames(got, []api.Frame{bare(api.TypePing, api.FlagSYN, 0, 9)}) || !sentinels.Breach(err, 7, api.ErrLength) {
+	if !specimens.Same(got, []api.Frame{specimens.Bare(api.TypePing, api.FlagSYN, 0, 9)}) || !sentinels.Breach(err, 7, api.ErrLength) {
 		t.Fatalf("the example with the violation: %v, %v", got, err)
 	}
 	isDead(t, d, 7, api.ErrLength)
@@ -226,9 +177,9 @@ func TestP5_1_TheChaptersExamples(t *testing.T) {
 }
 
 func TestP5_1_HeldAndWantsAtEachByteOfAFrame(t *testing.T) {
-	for _, f := range []api.Frame{dataFrame(0, 1, "abcde"), dataFrame(api.FlagFIN, 1, "a"), dataFrame(0, 1, ""), bare(api.TypeWindow, 0, 1, 5), bare(api.TypePing, api.FlagACK, 0, math.MaxUint32)} {
+	for _, f := range []api.Frame{specimens.Data(0, 1, "abcde"), specimens.Data(api.FlagFIN, 1, "a"), specimens.Data(0, 1, ""), specimens.Bare(api.TypeWindow, 0, 1, 5), specimens.Bare(api.TypePing, api.FlagACK, 0, math.MaxUint32)} {
 		d := newDecoder(t, 5)
-		b := bytesOf(t, f)
+		b := specimens.Bytes(f)
 		for i := range b {
 			wants := 12 - i
 			if i >= 12 {
@@ -236,7 +187,7 @@ func TestP5_1_HeldAndWantsAtEachByteOfAFrame(t *testing.T) {
 			}
 			stands(t, d, i, wants)
 			got, err := d.Feed(b[i : i+1])
-			if last := i == len(b)-1; err != nil || !last && len(got) != 0 || last && !sameFrames(got, []api.Frame{f}) {
+			if last := i == len(b)-1; err != nil || !last && len(got) != 0 || last && !specimens.Same(got, []api.Frame{f}) {
 				t.Fatalf("%x, byte %d: %v, %v", b, i, got, err)
 			}
 		}
@@ -283,10 +234,10 @@ func TestP5_1_EachWayToDie(t *testing.T) {
 		{api.Header{Type: api.TypeAway, Length: 3}, api.ErrLength},
 	} {
 		d := newDecoder(t, 3)
-		ahead := []api.Frame{dataFrame(0, 1, "abc"), bare(api.TypeAway, 0, 0, 2)}
-		behind := bytesOf(t, dataFrame(0, 9, "xyz"))
-		got, err := d.Feed(append(append(bytesOf(t, ahead...), frame.Encode(c.h)...), behind...))
-		if !sameFrames(got, ahead) || !sentinels.Breach(err, c.h.Stream, c.why) {
+		ahead := []api.Frame{specimens.Data(0, 1, "abc"), specimens.Bare(api.TypeAway, 0, 0, 2)}
+		behind := specimens.Bytes(specimens.Data(0, 9, "xyz"))
+		got, err := d.Feed(append(append(specimens.Bytes(ahead...), frame.Encode(c.h)...), behind...))
+		if !specimens.Same(got, ahead) || !sentinels.Breach(err, c.h.Stream, c.why) {
 			t.Errorf("%+v: %v, %v, want a violation: %v", c.h, got, err, c.why)
 		}
 		isDead(t, d, c.h.Stream, c.why)
@@ -296,9 +247,9 @@ func TestP5_1_EachWayToDie(t *testing.T) {
 func TestP5_1_MostIsTheMostPayload(t *testing.T) {
 	for _, most := range []int{1, 2, 11, 12, 13, 255, 256, api.MaxFrame - 1, api.MaxFrame} {
 		payload := bytes.Repeat([]byte("culvert"), most/7+1)[:most]
-		full := dataFrame(0, 3, string(payload))
+		full := specimens.Data(0, 3, string(payload))
 		d := newDecoder(t, most)
-		if got, err := d.Feed(bytesOf(t, full)); !sameFrames(got, []api.Frame{full}) || err != nil {
+		if got, err := d.Feed(specimens.Bytes(full)); !specimens.Same(got, []api.Frame{full}) || err != nil {
 			t.Errorf("most %d, and as many bytes: %d frames, %v", most, len(got), err)
 		}
 		stands(t, d, 0, 12)
@@ -312,9 +263,9 @@ func TestP5_1_MostIsTheMostPayload(t *testing.T) {
 
 func TestP5_1_AFrameWithoutPayloadHasNoData(t *testing.T) {
 	d := newDecoder(t, 3)
-	in := []api.Frame{dataFrame(0, 1, "ab"), dataFrame(0, 1, ""), dataFrame(api.FlagRST, 1, ""), bare(api.TypeWindow, 0, 1, 3), bare(api.TypePing, api.FlagSYN, 0, 3), bare(api.TypeAway, 0, 0, 2), dataFrame(0, 1, "c")}
-	got, err := d.Feed(bytesOf(t, in...))
-	if !sameFrames(got, in) || err != nil {
+	in := []api.Frame{specimens.Data(0, 1, "ab"), specimens.Data(0, 1, ""), specimens.Data(api.FlagRST, 1, ""), specimens.Bare(api.TypeWindow, 0, 1, 3), specimens.Bare(api.TypePing, api.FlagSYN, 0, 3), specimens.Bare(api.TypeAway, 0, 0, 2), specimens.Data(0, 1, "c")}
+	got, err := d.Feed(specimens.Bytes(in...))
+	if !specimens.Same(got, in) || err != nil {
 		t.Fatalf("%v, %v", got, err)
 	}
 	for i, f := range got[1:6] {
@@ -331,7 +282,7 @@ func TestP5_1_ADeadDecoderIsDeadForGood(t *testing.T) {
 	if _, err := d.Feed(bad); !sentinels.Breach(err, 258, api.ErrVersion) {
 		t.Fatalf("a header that may not be: %v", err)
 	}
-	for _, b := range [][]byte{nil, {}, {0}, make([]byte, 11), make([]byte, 12), bad, frame.Encode(api.Header{Type: 9}), bytesOf(t, dataFrame(0, 1, "abc")), make([]byte, 100000)} {
+	for _, b := range [][]byte{nil, {}, {0}, make([]byte, 11), make([]byte, 12), bad, frame.Encode(api.Header{Type: 9}), specimens.Bytes(specimens.Data(0, 1, "abc")), make([]byte, 100000)} {
 		if got, err := d.Feed(b); len(got) != 0 || !sentinels.Breach(err, 258, api.ErrVersion) {
 			t.Errorf("fed %d bytes: %v, %v", len(b), got, err)
 		}
@@ -340,7 +291,7 @@ func TestP5_1_ADeadDecoderIsDeadForGood(t *testing.T) {
 }
 
 func TestP5_1_NothingChangesNothing(t *testing.T) {
-	b := bytesOf(t, dataFrame(0, 1, "abc"), bare(api.TypePing, api.FlagSYN, 0, 1))
+	b := specimens.Bytes(specimens.Data(0, 1, "abc"), specimens.Bare(api.TypePing, api.FlagSYN, 0, 1))
 	var pieces [][]byte
 	for i := range b {
 		pieces = append(pieces, nil, b[i:i+1], []byte{})
@@ -352,7 +303,7 @@ func TestP5_2_EachCuttingGivesTheSame(t *testing.T) {
 	d := draws.Draws(5)
 	for i := range 1500 {
 		most := 1 + d.Below(20)
-		b := drawnBytes(t, &d, most)
+		b := drawnBytes(&d, most)
 		feedAll(t, most, [][]byte{b})
 		feedAll(t, most, singles(b))
 		for range 3 {
@@ -385,17 +336,17 @@ func TestP5_3_WhatFramesBytesSayComesBack(t *testing.T) {
 		most := []int{1, 2, 3, 12, 100, 3000}[d.Below(6)]
 		var in, out []api.Frame
 		for range d.Below(20) {
-			in = append(in, drawnFrame(&d, most))
+			in = append(in, specimens.Drawn(&d, most))
 		}
 		decoder := newDecoder(t, most)
-		for _, piece := range drawnPieces(&d, bytesOf(t, in...), 1+d.Below(2*most+20)) {
+		for _, piece := range drawnPieces(&d, specimens.Bytes(in...), 1+d.Below(2*most+20)) {
 			got, err := decoder.Feed(piece)
 			if err != nil {
 				t.Fatalf("most %d: %v", most, err)
 			}
 			out = append(out, got...)
 		}
-		if !sameFrames(in, out) {
+		if !specimens.Same(in, out) {
 			t.Fatalf("most %d: in %v, out %v", most, in, out)
 		}
 		stands(t, decoder, 0, 12)
@@ -408,13 +359,13 @@ func TestP5_3_WhatWasAnsweredAndWhatIsHeldIsAllThatWasFed(t *testing.T) {
 		most := 1 + d.Below(50)
 		decoder := newDecoder(t, most)
 		var fed, answered []byte
-		for _, piece := range drawnPieces(&d, drawnBytes(t, &d, most), 1+d.Below(40)) {
+		for _, piece := range drawnPieces(&d, drawnBytes(&d, most), 1+d.Below(40)) {
 			got, err := decoder.Feed(piece)
 			if err != nil {
 				break
 			}
 			fed = append(fed, piece...)
-			answered = append(answered, bytesOf(t, got...)...)
+			answered = append(answered, specimens.Bytes(got...)...)
 			if !bytes.HasPrefix(fed, answered) || len(fed)-len(answered) != decoder.Held() {
 				t.Fatalf("fed %x, answered %x, held %d", fed, answered, decoder.Held())
 			}
@@ -426,7 +377,7 @@ func TestP5_3_WhatWasAnsweredAndWhatIsHeldIsAllThatWasFed(t *testing.T) {
 		// What is held are these bytes and no others: with the rest behind them they are the frame.
 		rest := make([]byte, decoder.Wants())
 		got, err := decoder.Feed(rest)
-		if err != nil || !bytes.Equal(bytesOf(t, got...), append(held, rest...)) {
+		if err != nil || !bytes.Equal(specimens.Bytes(got...), append(held, rest...)) {
 			t.Fatalf("held %x, and fed %d noughts: %v, %v", held, len(rest), got, err)
 		}
 	}
@@ -436,7 +387,7 @@ func TestP5_4_HeldIsAtMostElevenAndMost(t *testing.T) {
 	for _, most := range []int{1, 2, 100, api.MaxFrame} {
 		d := newDecoder(t, most)
 		payload := bytes.Repeat([]byte{9}, most)
-		b := bytesOf(t, dataFrame(0, 1, string(payload)))
+		b := specimens.Bytes(specimens.Data(0, 1, string(payload)))
 		greatest := 0
 		for _, piece := range singles(slices.Concat(b, b)) {
 			if _, err := d.Feed(piece); err != nil {
@@ -456,7 +407,7 @@ func TestP5_4_FedWhatItWantsItAnswersAtMostOneFrame(t *testing.T) {
 	for range 500 {
 		most := 1 + d.Below(30)
 		decoder := newDecoder(t, most)
-		b := drawnBytes(t, &d, most)
+		b := drawnBytes(&d, most)
 		want := plainRead(b, most)
 		var got []api.Frame
 		for len(b) > 0 && decoder.Err() == nil {
@@ -470,23 +421,15 @@ func TestP5_4_FedWhatItWantsItAnswersAtMostOneFrame(t *testing.T) {
 			}
 			got, b = append(got, frames...), b[n:]
 		}
-		if !sameFrames(got, want.frames) {
+		if !specimens.Same(got, want.frames) {
 			t.Fatalf("%v, want %v", got, want.frames)
 		}
 	}
 }
 
-// spoil writes over all of b, its spare room too.
-func spoil(b []byte) {
-	b = b[:cap(b)]
-	for i := range b {
-		b[i] ^= 0xff
-	}
-}
-
 func TestP5_5_WhatIsHandedInStaysAndIsNotKept(t *testing.T) {
-	in := []api.Frame{dataFrame(0, 1, "abcdef"), bare(api.TypeWindow, 0, 1, 9), dataFrame(0, 2, "ghi")}
-	all := bytesOf(t, in...)
+	in := []api.Frame{specimens.Data(0, 1, "abcdef"), specimens.Bare(api.TypeWindow, 0, 1, 9), specimens.Data(0, 2, "ghi")}
+	all := specimens.Bytes(in...)
 	for size := 1; size <= len(all); size++ {
 		d := newDecoder(t, 6)
 		var got []api.Frame
@@ -499,33 +442,33 @@ func TestP5_5_WhatIsHandedInStaysAndIsNotKept(t *testing.T) {
 				t.Fatalf("pieces of %d: %x was made %x, %v", size, before, b[:cap(b)], err)
 			}
 			got = append(got, frames...)
-			spoil(b)
+			specimens.Spoil(b)
 		}
-		if !sameFrames(got, in) {
+		if !specimens.Same(got, in) {
 			t.Errorf("pieces of %d, written over when they were fed: %v", size, got)
 		}
 	}
 }
 
 func TestP5_5_EachFramesDataIsItsOwn(t *testing.T) {
-	in := []api.Frame{dataFrame(0, 1, "abcdef"), dataFrame(0, 1, "ghi"), dataFrame(0, 2, "jklmno")}
-	all := bytesOf(t, in...)
+	in := []api.Frame{specimens.Data(0, 1, "abcdef"), specimens.Data(0, 1, "ghi"), specimens.Data(0, 2, "jklmno")}
+	all := specimens.Bytes(in...)
 	for at := range all { // cut everywhere, so that what is held is the beginning of each of them
 		d := newDecoder(t, 6)
 		b := slices.Clone(all)
 		first, _ := d.Feed(b[:at])
-		firstSame := sameFrames(first, in[:len(first)])
+		firstSame := specimens.Same(first, in[:len(first)])
 		for i := range first {
-			spoil(first[i].Data)
+			specimens.Spoil(first[i].Data)
 		}
 		clear(first[:cap(first)])
 		second, _ := d.Feed(b[at:])
-		if !firstSame || !sameFrames(second, in[len(first):]) {
+		if !firstSame || !specimens.Same(second, in[len(first):]) {
 			t.Fatalf("cut at %d: %v, behind %d frames that were written over", at, second, len(first))
 		}
 		for i := range second {
-			spoil(second[i].Data)
-			if !sameFrames(second[i+1:], in[len(first)+i+1:]) {
+			specimens.Spoil(second[i].Data)
+			if !specimens.Same(second[i+1:], in[len(first)+i+1:]) {
 				t.Errorf("cut at %d: with frame %d the others were written over: %v", at, i, second)
 			}
 		}
@@ -549,7 +492,7 @@ func feedNew(d *feed.Decoder, b []byte) []weak.Pointer[byte] {
 }
 
 func TestP5_5_NeitherPiecesNorFramesAreKeptAlive(t *testing.T) {
-	full := bytesOf(t, dataFrame(0, 1, string(make([]byte, 200))))
+	full := specimens.Bytes(specimens.Data(0, 1, string(make([]byte, 200))))
 	for _, tail := range [][]byte{nil, full[:5], full[:12], full[:150], frame.Encode(api.Header{Type: 9})} {
 		d := newDecoder(t, 200)
 		left := feedNew(d, slices.Concat(full, full, tail))
@@ -568,7 +511,7 @@ func TestP5_5_NeitherPiecesNorFramesAreKeptAlive(t *testing.T) {
 
 func TestR7_ANilDecoder(t *testing.T) {
 	var d *feed.Decoder
-	for _, b := range [][]byte{nil, {0}, make([]byte, 12), bytesOf(t, dataFrame(0, 1, "a"))} {
+	for _, b := range [][]byte{nil, {0}, make([]byte, 12), specimens.Bytes(specimens.Data(0, 1, "a"))} {
 		if got, err := d.Feed(b); len(got) != 0 || !sentinels.Just(err, api.ErrNil) {
 			t.Errorf("Feed(%x): %v, %v, want ErrNil", b, got, err)
 		}
@@ -580,8 +523,8 @@ func TestR7_ANilDecoder(t *testing.T) {
 
 func TestR9_DecodersDoNotHangOnEachOther(t *testing.T) {
 	one, other := newDecoder(t, 3), newDecoder(t, 5)
-	a, b := dataFrame(0, 1, "abc"), dataFrame(0, 2, "vwxyz")
-	first, second := bytesOf(t, a), bytesOf(t, b)
+	a, b := specimens.Data(0, 1, "abc"), specimens.Data(0, 2, "vwxyz")
+	first, second := specimens.Bytes(a), specimens.Bytes(b)
 	for i := range second[:14] {
 		one.Feed(first[i : i+1])
 		other.Feed(second[i : i+1])
@@ -591,10 +534,10 @@ func TestR9_DecodersDoNotHangOnEachOther(t *testing.T) {
 	dead := newDecoder(t, 3)
 	dead.Feed(second)
 	isDead(t, dead, 2, api.ErrLength)
-	if got, err := one.Feed(first[14:]); !sameFrames(got, []api.Frame{a}) || err != nil {
+	if got, err := one.Feed(first[14:]); !specimens.Same(got, []api.Frame{a}) || err != nil {
 		t.Errorf("the one: %v, %v", got, err)
 	}
-	if got, err := other.Feed(second[14:]); !sameFrames(got, []api.Frame{b}) || err != nil {
+	if got, err := other.Feed(second[14:]); !specimens.Same(got, []api.Frame{b}) || err != nil {
 		t.Errorf("the other: %v, %v", got, err)
 	}
 }

@@ -13,6 +13,7 @@ import (
 	"culvert/draws"
 	"culvert/frame"
 	"culvert/sentinels"
+	"culvert/specimens"
 )
 
 const (
@@ -449,18 +450,10 @@ func TestP4_3_HeadersWithOneTextAreEqual(t *testing.T) {
 	}
 }
 
-// spoil writes over all of b, its spare room too.
-func spoil(b []byte) {
-	b = b[:cap(b)]
-	for i := range b {
-		b[i] ^= 0xff
-	}
-}
-
 func TestP4_4_WhatEncodeAnswersIsNew(t *testing.T) {
 	for _, c := range writings {
 		first, second := frame.Encode(c.h), frame.Encode(c.h)
-		spoil(first)
+		specimens.Spoil(first)
 		if string(second) != c.b || string(frame.Encode(c.h)) != c.b {
 			t.Errorf("Encode(%+v) shares memory with another answer", c.h)
 		}
@@ -488,14 +481,14 @@ func TestP4_4_WhatBytesAnswersIsNew(t *testing.T) {
 			if err != nil {
 				t.Fatalf("Bytes of a payload of %d bytes: %v", n, err)
 			}
-			spoil(first)
+			specimens.Spoil(first)
 			if !bytes.Equal(room, before) {
 				t.Errorf("what Bytes answers of %d bytes shares memory with the payload, or changed it", n)
 			}
 			if !bytes.Equal(second, want) {
 				t.Errorf("what Bytes answers of %d bytes shares memory with another answer", n)
 			}
-			spoil(room)
+			specimens.Spoil(room)
 			if !bytes.Equal(second, want) {
 				t.Errorf("what Bytes answered of %d bytes changes with the payload", n)
 			}

@@ -8,6 +8,7 @@ import (
 	"culvert/api"
 	"culvert/num"
 	"culvert/sentinels"
+	"culvert/specimens"
 )
 
 const most = math.MaxUint32
@@ -256,21 +257,13 @@ func checkSub(t *testing.T, a, b uint32) {
 	}
 }
 
-// spoil writes over a list and its spare room.
-func spoil(b []byte) {
-	b = b[:cap(b)]
-	for i := range b {
-		b[i] ^= 0xff
-	}
-}
-
 func TestP1_3_AnswersAreNewMemory(t *testing.T) {
 	for _, v := range edges {
 		short, shortAgain := num.Bytes16(uint16(v)), num.Bytes16(uint16(v))
 		long, longAgain := num.Bytes32(v), num.Bytes32(v)
 		wantShort, wantLong := string(shortAgain), string(longAgain)
-		spoil(short)
-		spoil(long)
+		specimens.Spoil(short)
+		specimens.Spoil(long)
 		if string(shortAgain) != wantShort || string(num.Bytes16(uint16(v))) != wantShort {
 			t.Errorf("Bytes16(%d): one answer is seen in another", uint16(v))
 		}

@@ -12,6 +12,7 @@ import (
 	"culvert/draws"
 	"culvert/ring"
 	"culvert/sentinels"
+	"culvert/specimens"
 )
 
 // newRing: a ring that must come about.
@@ -307,14 +308,6 @@ func TestP2_3_ThingsAreKeptAsTheyAre(t *testing.T) {
 	equal(t, "Pop", string(lists.Pop(1)[0]), "zb")
 }
 
-// spoil writes over a list and its spare room.
-func spoil(b []byte) {
-	b = b[:cap(b)]
-	for i := range b {
-		b[i] ^= 0xff
-	}
-}
-
 func TestP2_4_WhatIsPushedIsNeitherChangedNorKept(t *testing.T) {
 	for _, size := range []int{0, 1, 3, 4, 6} {
 		r := newRing[byte](t, 4)
@@ -322,7 +315,7 @@ func TestP2_4_WhatIsPushedIsNeitherChangedNorKept(t *testing.T) {
 			whole := []byte("abcdefghij")
 			took := r.Push(whole[:size])
 			equal(t, "the list behind Push", string(whole), "abcdefghij")
-			spoil(whole)
+			specimens.Spoil(whole)
 			tells(t, r, 4, []byte("abcdefghij")[:took])
 			equal(t, "Pop", string(r.Pop(9)), "abcdefghij"[:took])
 			equal(t, "the list behind Pop", whole[0], 'a'^0xff)
@@ -339,7 +332,7 @@ func TestP2_4_WhatIsAnsweredIsNewMemory(t *testing.T) {
 			r.Push([]byte("abcdefgh"))
 			want := []byte("12345678abcdefgh")[turned : turned+8]
 			peeked, again := r.Peek(n), r.Peek(n)
-			spoil(peeked)
+			specimens.Spoil(peeked)
 			if !bytes.Equal(again, want[:n]) {
 				t.Fatalf("one Peek(%d) is seen in another: %q", n, again)
 			}
@@ -349,7 +342,7 @@ func TestP2_4_WhatIsAnsweredIsNewMemory(t *testing.T) {
 			if !bytes.Equal(popped, want[:n]) {
 				t.Fatalf("a Push is seen in what Pop(%d) has answered: %q", n, popped)
 			}
-			spoil(popped)
+			specimens.Spoil(popped)
 			tells(t, r, 8, append(slices.Clone(want[n:]), "ABCDEFGH"[:n]...))
 		}
 	}
