@@ -36,3 +36,15 @@ func TestEachNumberComesAndNoOther(t *testing.T) {
 		}
 	}
 }
+
+// A row that came round soon would draw the same turns again and again, and most of all where few numbers are asked for.
+func TestARowDoesNotComeRoundSoon(t *testing.T) {
+	for n := 2; n < 40; n++ {
+		numbers := row(1, n, 1<<14)
+		for again := 1; again <= 1<<13; again *= 2 {
+			if slices.Equal(numbers[:1<<13], numbers[again:again+1<<13]) {
+				t.Errorf("below %d: the row comes round behind %d", n, again)
+			}
+		}
+	}
+}
