@@ -28,7 +28,7 @@ func isClean(op api.LinkOp) bool {
 	return op.Kind != api.DoReset && op.Kind != api.DoAway && op.Kind != api.DoCut && op.Kind != api.DoInject
 }
 
-// everyOrder: behind the beginning, so many of the moves in every order, some of them several times. Behind each move P20.1 to P20.4 hold; at the end, where nothing was ended, P20.5.
+// everyOrder: behind the beginning, so many of the moves in every order, some of them several times. Behind each move P20.2 to P20.4 hold; at the end all is told that P20.1 says, and, where nothing was ended, P20.5 holds.
 func everyOrder(t *testing.T, cfg api.Config, begin []api.LinkOp, moves [][]api.LinkOp, many int) {
 	t.Helper()
 	orders := 1
@@ -47,9 +47,9 @@ func everyOrder(t *testing.T, cfg api.Config, begin []api.LinkOp, moves [][]api.
 				clean = clean && isClean(op)
 			}
 			order /= len(moves)
+			b.lawful(t)
 		}
-		b.tells(t) // what stands behind fewer moves is seen in another order
-		b.lawful(t)
+		b.tells(t)
 		if clean {
 			b.comesToRest(t, least, 1)
 		}
@@ -69,7 +69,7 @@ func begun() []api.LinkOp {
 		one(writes(0, 1, "ab")), one(steps(0)), over(0), one(writes(1, 1, "xy")), one(steps(1)), one(sends(1, 9)))
 }
 
-func TestP20_4_EveryOrderOfFourMoves(t *testing.T) {
+func TestP20_3_EveryOrderOfFewMoves(t *testing.T) {
 	moves := [][]api.LinkOp{
 		one(opens(0)), one(accepts(1)), one(writes(0, 1, "cd")), one(writes(1, 1, "z")), one(reads(0, 1, 1)), one(reads(1, 1, 9)),
 		one(closes(0, 1)), one(closes(1, 1)), one(resets(0, 1)), one(resets(1, 1)), one(goesAway(1)),
